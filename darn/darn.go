@@ -1,0 +1,28 @@
+// Package darn: a parser that mends what it reads as cheaply as can be: see DOC.md.
+package darn
+
+import (
+	"darn/api"
+	"darn/source"
+)
+
+// Parser reads and mends rows of tokens.
+type Parser struct{}
+
+// Check tells whether a text is a grammar, and if not, where (P3).
+func Check(grammar string) (api.Errno, int) { return source.Check(grammar) }
+
+// Facts tells what a grammar's names have (P4).
+func Facts(grammar string) ([]api.Fact, api.Errno) { return nil, api.OK }
+
+// Clash tells why a grammar can't be compiled (P5).
+func Clash(grammar string) (api.Pair, api.Errno) { return api.Pair{}, api.OK }
+
+// Compile makes a Parser (P6).
+func Compile(grammar string) (*Parser, api.Errno) { return nil, api.OK }
+
+// Read reads a row that the grammar has (P7).
+func (p *Parser) Read(row []string) ([]api.Node, int, api.Errno) { return nil, 0, api.OK }
+
+// Mend mends a row (P8).
+func (p *Parser) Mend(row []string) (api.Mended, api.Errno) { return api.Mended{}, api.OK }
