@@ -17,6 +17,9 @@ var texts = []string{
 	"rule S =\nrule S =\n", "token a 1 1\n", "rule S = a\n", small + "swap a a 1\n", small + "swap z a 1\n",
 	strings.Repeat("x", api.MaxText+1), strings.Repeat("\n", api.MaxText), strings.Repeat(" ", api.MaxText), strings.Repeat("rule S =\n", 444),
 	"rule S =" + strings.Repeat(" |", 1990) + "\n", "rule S =" + strings.Repeat(" S", 1990) + "\n", strings.Repeat("token a 1 1\n", 333),
+	"rule S = S\n", "rule S =\nrule A = A\n", "rule S =\nrule A =\n", "rule S = |\n", chain(api.MaxNames, 1), chain(api.MaxNames, 16), chain(2, 3), chain(2, 4),
+	"token a 1 1\nrule S = a | A\nrule A = a\n", "token a 1 1\nrule S = A a\nrule A = a |\n", "rule S =" + strings.Repeat(" |", api.MaxRules-1) + "\n",
+	named(api.MaxTokens, "token ", 'a', " 99 1") + named(api.MaxNames, "rule ", 'A', " = A B C D E F G H | I J K L M N O P | Q R S T a b |"),
 }
 
 var rows = [][]string{nil, {}, {""}, {"a"}, {"a", "b"}, {"S"}, {"c", "\xff"}, slices.Repeat([]string{"a"}, api.MaxRow+1)}
@@ -47,7 +50,8 @@ func TestNothingBesideError(t *testing.T) {
 		if facts, err := darn.Facts(text); err != api.OK && len(facts) > 0 {
 			t.Errorf("Facts(%.90q) = %v, %d", text, facts, err)
 		}
-		if pair, err := darn.Clash(text); (err == api.OK || err <= api.ErrUnknown) && pair != (api.Pair{}) {
+		pair, err := darn.Clash(text)
+		if err <= api.ErrUnknown && pair != (api.Pair{}) || err != api.ErrClash && pair != (api.Pair{Name: pair.Name}) {
 			t.Errorf("Clash(%.90q) = %v, %d", text, pair, err)
 		}
 		if p, err := darn.Compile(text); err != api.OK && p != nil {
@@ -70,22 +74,47 @@ func TestRowsAreLeftAlone(t *testing.T) {
 	}
 }
 
+// answered: what the calls that take a text answered.
+type answered struct {
+	place    checked
+	facts    string
+	factsErr api.Errno
+	pair     api.Pair
+	pairErr  api.Errno
+}
+
+func answers(text string) (a answered) {
+	a.place.text = text
+	a.place.err, a.place.at = darn.Check(text)
+	facts, err := darn.Facts(text)
+	a.facts, a.factsErr = told(facts), err
+	a.pair, a.pairErr = darn.Clash(text)
+	return a
+}
+
+func wantSame(t *testing.T, all []answered) {
+	for _, first := range all {
+		if again := answers(first.place.text); again != first {
+			t.Errorf("the answers %v became %v", first, again)
+		}
+	}
+}
+
 // TestSameAnswers (P2): what was asked before, or is asked beside, changes nothing.
 func TestSameAnswers(t *testing.T) {
-	var first []checked
+	var first []answered
 	for _, text := range texts {
-		err, at := darn.Check(text)
-		first = append(first, checked{text, err, at})
+		first = append(first, answers(text))
 	}
 	for _, again := range first {
 		for _, other := range texts {
-			darn.Check(other)
-			wantChecks(t, []checked{again})
+			answers(other)
+			wantSame(t, []answered{again})
 		}
 	}
 	var all sync.WaitGroup
 	for range 8 {
-		all.Go(func() { wantChecks(t, first) })
+		all.Go(func() { wantSame(t, first) })
 	}
 	all.Wait()
 }

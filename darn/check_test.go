@@ -345,11 +345,7 @@ func TestCheckAnyText(t *testing.T) {
 		seen[err]++
 		wantChecks(t, []checked{{text, err, at}})
 	}
-	for _, err := range []api.Errno{api.OK, api.ErrForm, api.ErrTwice, api.ErrMany, api.ErrUnknown} {
-		if seen[err] < 300 {
-			t.Errorf("of the error %d there are only %d texts", err, seen[err])
-		}
-	}
+	wantSeen(t, seen, api.OK, api.ErrForm, api.ErrTwice, api.ErrMany, api.ErrUnknown)
 }
 
 // TestCheckAnyByte puts, changes and cuts at each place of a text.

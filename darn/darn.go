@@ -3,7 +3,9 @@ package darn
 
 import (
 	"darn/api"
+	"darn/facts"
 	"darn/source"
+	"darn/table"
 )
 
 // Parser reads and mends rows of tokens.
@@ -13,10 +15,19 @@ type Parser struct{}
 func Check(grammar string) (api.Errno, int) { return source.Check(grammar) }
 
 // Facts tells what a grammar's names have (P4).
-func Facts(grammar string) ([]api.Fact, api.Errno) { return nil, api.OK }
+func Facts(grammar string) ([]api.Fact, api.Errno) {
+	f, _, err := facts.Read(grammar)
+	if err != api.OK {
+		return nil, err
+	}
+	return f.Told(), api.OK
+}
 
 // Clash tells why a grammar can't be compiled (P5).
-func Clash(grammar string) (api.Pair, api.Errno) { return api.Pair{}, api.OK }
+func Clash(grammar string) (api.Pair, api.Errno) {
+	_, pair, err := table.Read(grammar)
+	return pair, err
+}
 
 // Compile makes a Parser (P6).
 func Compile(grammar string) (*Parser, api.Errno) { return nil, api.OK }

@@ -4,26 +4,32 @@ import "darn/api"
 
 // Check tells whether a text is a grammar, and if not, where.
 func Check(text string) (api.Errno, int) {
+	_, err, at := checkedLines(text)
+	return err, at
+}
+
+// checkedLines gives a grammar's lines, or what is wrong with it and where.
+func checkedLines(text string) ([]line, api.Errno, int) {
 	if len(text) > api.MaxText {
-		return api.ErrLong, 0
+		return nil, api.ErrLong, 0
 	}
 	lines, end := readLines(text)
 	if end < len(text) {
-		return api.ErrForm, end
+		return nil, api.ErrForm, end
 	}
 	if at, found := firstTwice(lines); found {
-		return api.ErrTwice, at
+		return nil, api.ErrTwice, at
 	}
 	if at, found := firstMany(lines); found {
-		return api.ErrMany, at
+		return nil, api.ErrMany, at
 	}
 	if !hasName(lines) {
-		return api.ErrMany, len(text)
+		return nil, api.ErrMany, len(text)
 	}
 	if at, found := firstUnknown(lines); found {
-		return api.ErrUnknown, at
+		return nil, api.ErrUnknown, at
 	}
-	return api.OK, 0
+	return lines, api.OK, 0
 }
 
 // firstTwice is the place of the first line that gives what an earlier one gave.

@@ -1,4 +1,4 @@
-// Package source: a grammar's text, and what is wrong with it.
+// Package source: a grammar's text: what is wrong with it, and what it says.
 package source
 
 import (
@@ -95,7 +95,8 @@ func (k kind) has(word string) bool {
 	case upper:
 		return len(word) <= api.MaxName && isOf(word, 'A', 'Z')
 	case number:
-		return isCost(word)
+		_, ok := cost(word)
+		return ok
 	case equals:
 		return word == "="
 	}
@@ -111,13 +112,13 @@ func allParts(words []string) bool {
 	return true
 }
 
-// isCost asks for the digits first, because Atoi takes signs too.
-func isCost(word string) bool {
+// cost asks for the digits first, because Atoi takes signs too.
+func cost(word string) (int, bool) {
 	if !isOf(word, '0', '9') || word[0] == '0' {
-		return false
+		return 0, false
 	}
 	n, err := strconv.Atoi(word)
-	return err == nil && n <= api.MaxCost
+	return n, err == nil && n <= api.MaxCost
 }
 
 // isOf tells whether a word is one or more bytes, all from low to high.

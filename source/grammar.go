@@ -1,0 +1,105 @@
+package source
+
+import (
+	"iter"
+	"strings"
+
+	"darn/api"
+)
+
+// Grammar: what was read: tokens and names, by number. The first name is the start.
+type Grammar struct {
+	Tokens []Token
+	Names  []Name
+}
+
+// Token: how it is spelt, and what putting it in costs.
+type Token struct {
+	Word string
+	Put  int
+}
+
+// Name: how it is spelt, and its rules, each a list of parts.
+type Name struct {
+	Word  string
+	Rules [][]Part
+}
+
+// Part: a token or a name, by its number.
+type Part struct {
+	IsName bool
+	Number int
+}
+
+// Read gives a text's grammar, or what is wrong with it.
+func Read(text string) (Grammar, api.Errno) {
+	lines, err, _ := checkedLines(text)
+	if err != api.OK {
+		return Grammar{}, err
+	}
+	return built(lines), api.OK
+}
+
+// built clones the words, because a piece of the text would keep all of it.
+func built(lines []line) (g Grammar) {
+	number := numbered(lines)
+	for _, l := range lines {
+		switch l.shape {
+		case tokenLine:
+			put, _ := cost(l.words[1])
+			g.Tokens = append(g.Tokens, Token{strings.Clone(l.words[0]), put})
+		case ruleLine:
+			name := Name{Word: strings.Clone(l.words[0])}
+			for _, words := range l.rules() {
+				parts := make([]Part, len(words))
+				for i, w := range words {
+					parts[i] = number[w]
+				}
+				name.Rules = append(name.Rules, parts)
+			}
+			g.Names = append(g.Names, name)
+		}
+	}
+	return g
+}
+
+// numbered goes ahead of all rules, because a rule may have what a later line gives.
+func numbered(lines []line) map[string]Part {
+	number := map[string]Part{}
+	tokens, names := 0, 0
+	for _, l := range lines {
+		switch l.shape {
+		case tokenLine:
+			number[l.gives()] = Part{false, tokens}
+			tokens++
+		case ruleLine:
+			number[l.gives()] = Part{true, names}
+			names++
+		}
+	}
+	return number
+}
+
+// End is the number of the END.
+func (g Grammar) End() int { return len(g.Tokens) }
+
+// Word is how a token is spelt, the END as the empty string.
+func (g Grammar) Word(token int) string {
+	if token == g.End() {
+		return ""
+	}
+	return g.Tokens[token].Word
+}
+
+// Rules are the rules of all names, each with its name's number.
+func (g Grammar) Rules() iter.Seq2[int, []Part] {
+	return func(yield func(int, []Part) bool) {
+		for n, name := range g.Names {
+			for _, parts := range name.Rules {
+				if !yield(n, parts) {
+					return
+				}
+			}
+		}
+	}
+}
