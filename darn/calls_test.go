@@ -2,6 +2,7 @@ package darn_test
 
 import (
 	"slices"
+	"strconv"
 	"strings"
 	"sync"
 	"testing"
@@ -19,9 +20,11 @@ var texts = []string{
 	"rule S =" + strings.Repeat(" |", 1990) + "\n", "rule S =" + strings.Repeat(" S", 1990) + "\n", strings.Repeat("token a 1 1\n", 333),
 	"rule S = S\n", "rule S =\nrule A = A\n", "rule S =\nrule A =\n", "rule S = |\n", chain(api.MaxNames, 1), chain(api.MaxNames, 16), chain(2, 3), chain(2, 4),
 	"token a 1 1\nrule S = a | A\nrule A = a\n", "token a 1 1\nrule S = A a\nrule A = a |\n", "rule S =" + strings.Repeat(" |", api.MaxRules-1) + "\n",
+	empties(api.MaxNames, 1), empties(api.MaxNames, api.MaxParts), "token a 1 1\ntoken b 1 1\nrule Z = a A | b A Z b\n" + empties(api.MaxNames-1, api.MaxParts),
 	named(api.MaxTokens, "token ", 'a', " 99 1") + named(api.MaxNames, "rule ", 'A', " = A B C D E F G H | I J K L M N O P | Q R S T a b |"),
 }
 
+// rows: right ones, and of each error of Read some.
 var rows = [][]string{nil, {}, {""}, {"a"}, {"a", "b"}, {"S"}, {"c", "\xff"}, slices.Repeat([]string{"a"}, api.MaxRow+1)}
 
 // TestNoCallPanics (P1); a call that does not end lets the test run out of time.
@@ -54,8 +57,15 @@ func TestNothingBesideError(t *testing.T) {
 		if err <= api.ErrUnknown && pair != (api.Pair{}) || err != api.ErrClash && pair != (api.Pair{Name: pair.Name}) {
 			t.Errorf("Clash(%.90q) = %v, %d", text, pair, err)
 		}
-		if p, err := darn.Compile(text); err != api.OK && p != nil {
+		p, err := darn.Compile(text)
+		if err != api.OK && p != nil {
 			t.Errorf("Compile(%.90q) = %v, %d", text, p, err)
+		}
+		for _, row := range rows {
+			tree, at, err := p.Read(row)
+			if at < -1 || at > len(row) || len(tree) > 0 != (err == api.OK && at == -1) || err != api.OK && at != 0 {
+				t.Errorf("Compile(%.90q), Read(%q) = %d nodes, %d, %d", text, row, len(tree), at, err)
+			}
 		}
 	}
 }
@@ -74,13 +84,15 @@ func TestRowsAreLeftAlone(t *testing.T) {
 	}
 }
 
-// answered: what the calls that take a text answered.
+// answered: what the calls answered to a text and, of its Parser, to each of the rows.
 type answered struct {
 	place    checked
 	facts    string
 	factsErr api.Errno
 	pair     api.Pair
 	pairErr  api.Errno
+	made     api.Errno
+	reads    string
 }
 
 func answers(text string) (a answered) {
@@ -89,6 +101,12 @@ func answers(text string) (a answered) {
 	facts, err := darn.Facts(text)
 	a.facts, a.factsErr = told(facts), err
 	a.pair, a.pairErr = darn.Clash(text)
+	p, err := darn.Compile(text)
+	a.made = err
+	for _, row := range rows {
+		tree, at, err := p.Read(row)
+		a.reads += spelt(tree) + " " + strconv.Itoa(at) + " " + strconv.Itoa(int(err)) + "; "
+	}
 	return a
 }
 

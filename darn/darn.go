@@ -6,10 +6,13 @@ import (
 	"darn/facts"
 	"darn/source"
 	"darn/table"
+	"darn/tree"
 )
 
 // Parser reads and mends rows of tokens.
-type Parser struct{}
+type Parser struct {
+	table *table.Table // nil, if Compile did not make the Parser
+}
 
 // Check tells whether a text is a grammar, and if not, where (P3).
 func Check(grammar string) (api.Errno, int) { return source.Check(grammar) }
@@ -30,10 +33,40 @@ func Clash(grammar string) (api.Pair, api.Errno) {
 }
 
 // Compile makes a Parser (P6).
-func Compile(grammar string) (*Parser, api.Errno) { return nil, api.OK }
+func Compile(grammar string) (*Parser, api.Errno) {
+	t, _, err := table.Read(grammar)
+	if err != api.OK {
+		return nil, err
+	}
+	return &Parser{t}, api.OK
+}
 
 // Read reads a row that the grammar has (P7).
-func (p *Parser) Read(row []string) ([]api.Node, int, api.Errno) { return nil, 0, api.OK }
+func (p *Parser) Read(row []string) ([]api.Node, int, api.Errno) {
+	tokens, err := p.tokens(row)
+	if err != api.OK {
+		return nil, 0, err
+	}
+	return tree.Read(p.table, tokens)
+}
 
 // Mend mends a row (P8).
-func (p *Parser) Mend(row []string) (api.Mended, api.Errno) { return api.Mended{}, api.OK }
+func (p *Parser) Mend(row []string) (api.Mended, api.Errno) {
+	_, err := p.tokens(row)
+	return api.Mended{}, err
+}
+
+// tokens are a row's tokens by number, or what is wrong with the Parser or the row.
+func (p *Parser) tokens(row []string) ([]int, api.Errno) {
+	if p == nil || p.table == nil {
+		return nil, api.ErrClosed
+	}
+	if len(row) > api.MaxRow {
+		return nil, api.ErrRow
+	}
+	numbers, ok := p.table.Numbers(row)
+	if !ok {
+		return nil, api.ErrRow
+	}
+	return numbers, api.OK
+}

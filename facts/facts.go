@@ -160,6 +160,15 @@ func (f *Facts) ahead(parts []source.Part, follow Set) Set {
 // nullable goes by the cost, because there is no token that costs nothing.
 func (k fact) nullable() bool { return k.least == 0 }
 
+// Begins tells whether a name derives a row that begins with a token.
+func (f *Facts) Begins(name, token int) bool { return f.known[name].first.Has(token) }
+
+// Empties tells whether a list of parts derives the empty row.
+func (f *Facts) Empties(parts []source.Part) bool {
+	_, empty := f.begins(parts)
+	return empty
+}
+
 // Speaking are the tokens that speak for a rule of a name.
 func (f *Facts) Speaking(name, rule int) Set {
 	return f.ahead(f.Names[name].Rules[rule], f.known[name].follow)

@@ -10,6 +10,9 @@ type Set uint32
 
 func only(token int) Set { return 1 << token }
 
+// Has tells whether a number is in a set.
+func (s Set) Has(token int) bool { return s&only(token) != 0 }
+
 // All are the numbers in a set, the lesser ones first.
 func (s Set) All() iter.Seq[int] {
 	return func(yield func(int) bool) {

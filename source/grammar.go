@@ -2,6 +2,7 @@ package source
 
 import (
 	"iter"
+	"slices"
 	"strings"
 
 	"darn/api"
@@ -80,6 +81,21 @@ func numbered(lines []line) map[string]Part {
 	return number
 }
 
+// Start is the name of which all rows are derived.
+func (g Grammar) Start() Part { return Part{IsName: true, Number: 0} }
+
+// Numbers are a row's tokens by number; not ok, if one is none of the grammar's.
+func (g Grammar) Numbers(row []string) (numbers []int, ok bool) {
+	for _, word := range row {
+		n := slices.IndexFunc(g.Tokens, func(t Token) bool { return t.Word == word })
+		if n < 0 {
+			return nil, false
+		}
+		numbers = append(numbers, n)
+	}
+	return numbers, true
+}
+
 // End is the number of the END.
 func (g Grammar) End() int { return len(g.Tokens) }
 
@@ -89,6 +105,14 @@ func (g Grammar) Word(token int) string {
 		return ""
 	}
 	return g.Tokens[token].Word
+}
+
+// Spelt is how a part is spelt.
+func (g Grammar) Spelt(p Part) string {
+	if p.IsName {
+		return g.Names[p.Number].Word
+	}
+	return g.Tokens[p.Number].Word
 }
 
 // Rules are the rules of all names, each with its name's number.
