@@ -24,8 +24,8 @@ var texts = []string{
 	named(api.MaxTokens, "token ", 'a', " 99 1") + named(api.MaxNames, "rule ", 'A', " = A B C D E F G H | I J K L M N O P | Q R S T a b |"),
 }
 
-// rows: right ones, and of each error of Read some.
-var rows = [][]string{nil, {}, {""}, {"a"}, {"a", "b"}, {"S"}, {"c", "\xff"}, slices.Repeat([]string{"a"}, api.MaxRow+1)}
+// rows: right ones, wrong ones, and of each error of Read and Mend some.
+var rows = [][]string{nil, {}, {""}, {"a"}, {"a", "b"}, {"b", "a"}, {"S"}, {"c", "\xff"}, slices.Repeat([]string{"a"}, api.MaxRow+1)}
 
 // TestNoCallPanics (P1); a call that does not end lets the test run out of time.
 func TestNoCallPanics(t *testing.T) {
@@ -66,6 +66,9 @@ func TestNothingBesideError(t *testing.T) {
 			if at < -1 || at > len(row) || len(tree) > 0 != (err == api.OK && at == -1) || err != api.OK && at != 0 {
 				t.Errorf("Compile(%.90q), Read(%q) = %d nodes, %d, %d", text, row, len(tree), at, err)
 			}
+			if m, err := p.Mend(row); isNothing(m) != (err != api.OK) {
+				t.Errorf("Compile(%.90q), Mend(%q) = %s, %d nodes, %d", text, row, mended(m), len(m.Tree), err)
+			}
 		}
 	}
 }
@@ -93,6 +96,7 @@ type answered struct {
 	pairErr  api.Errno
 	made     api.Errno
 	reads    string
+	mends    string
 }
 
 func answers(text string) (a answered) {
@@ -106,6 +110,8 @@ func answers(text string) (a answered) {
 	for _, row := range rows {
 		tree, at, err := p.Read(row)
 		a.reads += spelt(tree) + " " + strconv.Itoa(at) + " " + strconv.Itoa(int(err)) + "; "
+		m, err := p.Mend(row)
+		a.mends += mended(m) + " " + spelt(m.Tree) + " " + strconv.Itoa(int(err)) + "; "
 	}
 	return a
 }

@@ -67,8 +67,9 @@ func TestCompileAnyGrammar(t *testing.T) {
 
 // TestParsersApart: a Parser knows its own grammar, whatever was compiled ahead of it or behind it.
 func TestParsersApart(t *testing.T) {
+	other := "token b 1 1\ntoken a 1 1\nrule A = b A | a\n"
 	one := compiled(t, small)
-	two := compiled(t, "token b 1 1\ntoken a 1 1\nrule A = b A | a\n")
+	two := compiled(t, other)
 	again := compiled(t, small)
 	for range 2 {
 		wantTree(t, one, "a b", "(S 0 4) (a -1 1) (S 1 1) (b -1 1)")
@@ -76,10 +77,13 @@ func TestParsersApart(t *testing.T) {
 		wantTree(t, again, "", "(S 1 1)")
 		wantFault(t, one, "b a", 0)
 		wantFault(t, two, "", 0)
+		wantMendedBy(t, one, small, "b", "put 0 a 1 [a]; 1 [a b]")
+		wantMendedBy(t, two, other, "b", "put 1 a 1 [b a]; 1 [b a]")
+		wantMendedBy(t, again, small, "a", "drop 0 a 1 [a]; 1 []")
 	}
 }
 
-// TestOneParserBeside (P2): rows that are read at the same time know nothing of each other.
+// TestOneParserBeside (P2): rows that are read and mended at the same time know nothing of each other.
 func TestOneParserBeside(t *testing.T) {
 	p := compiled(t, small)
 	var all sync.WaitGroup
@@ -89,6 +93,8 @@ func TestOneParserBeside(t *testing.T) {
 				wantTree(t, p, "a b", "(S 0 4) (a -1 1) (S 1 1) (b -1 1)")
 				wantFault(t, p, "a a b", 3)
 				wantReadError(t, p, []string{"a", "z"}, api.ErrRow)
+				wantMendedBy(t, p, small, "a b a", "drop 2 a 1 []; 1 [a b]")
+				wantMendError(t, p, []string{"a", "z"}, api.ErrRow)
 			}
 		})
 	}

@@ -4,6 +4,7 @@ package darn
 import (
 	"darn/api"
 	"darn/facts"
+	"darn/mend"
 	"darn/source"
 	"darn/table"
 	"darn/tree"
@@ -52,8 +53,11 @@ func (p *Parser) Read(row []string) ([]api.Node, int, api.Errno) {
 
 // Mend mends a row (P8).
 func (p *Parser) Mend(row []string) (api.Mended, api.Errno) {
-	_, err := p.tokens(row)
-	return api.Mended{}, err
+	tokens, err := p.tokens(row)
+	if err != api.OK {
+		return api.Mended{}, err
+	}
+	return mend.Mend(p.table, tokens)
 }
 
 // tokens are a row's tokens by number, or what is wrong with the Parser or the row.

@@ -12,7 +12,14 @@ type plainRow struct {
 	ends  map[string][]uint64 // by name and place: a bit for each place where a piece may end that begins there
 }
 
+// longest: of a row of which the pieces are found.
+const longest = 63
+
+// pieces goes on until there is none more to be found.
 func (g *plain) pieces(row []string, loose bool) *plainRow {
+	if len(row) > longest {
+		panic("the row has more places than there are bits")
+	}
 	r := &plainRow{g, row, loose, map[string][]uint64{}}
 	for _, n := range g.names {
 		r.ends[n] = make([]uint64, len(row)+1)

@@ -5,6 +5,7 @@ import (
 	"maps"
 	"math"
 	"slices"
+	"strconv"
 	"strings"
 	"testing"
 
@@ -15,6 +16,8 @@ import (
 type plain struct {
 	tokens, names []string
 	put           map[string]float64
+	drop          map[string]int
+	swap          map[[2]string]int // by the token that is changed and the one that it is changed to
 	rules         map[string][][]string
 	beginnings    map[string]map[string]bool // of the rows that a name derives: the first token, or nothing of the empty row
 	leasts        map[string]float64
@@ -25,7 +28,7 @@ type plain struct {
 const height = 4*5 + 1
 
 func plainRead(text string) *plain {
-	g := &plain{put: map[string]float64{}, rules: map[string][][]string{}, behind: map[string]map[string]bool{}}
+	g := &plain{put: map[string]float64{}, drop: map[string]int{}, swap: map[[2]string]int{}, rules: map[string][][]string{}, behind: map[string]map[string]bool{}}
 	for line := range strings.Lines(text) {
 		w := strings.Fields(line)
 		switch w[0] {
@@ -34,6 +37,11 @@ func plainRead(text string) *plain {
 			fmt.Sscan(w[2], &put)
 			g.tokens = append(g.tokens, w[1])
 			g.put[w[1]] = put
+			g.drop[w[1]], _ = strconv.Atoi(w[3])
+		case "swap":
+			if pair := [2]string{w[1], w[2]}; g.swap[pair] == 0 {
+				g.swap[pair], _ = strconv.Atoi(w[3])
+			}
 		case "rule":
 			g.names = append(g.names, w[1])
 			for rule := range strings.SplitSeq(strings.Join(w[3:], " "), "|") {

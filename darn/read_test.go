@@ -198,7 +198,44 @@ func empties(names, times int) string {
 	return lines(append(l, fmt.Sprintf("rule %c =", 'A'+names-1))...)
 }
 
-// TestReadGreatTrees (P1): a tree of millions of nodes is built; one that no memory holds ends the call with an error, but hides no fault of a row.
+// grown gives a grammar whose only row, the empty one, has a tree of 38347923 nodes: below the start, which has the next name twice, each name has the next one eight times.
+func grown() string {
+	return "rule START = A A\n" + empties(9, api.MaxParts)
+}
+
+// isGrown tells whether a list is that tree.
+func isGrown(tree []api.Node) bool {
+	if len(tree) != 38347923 || tree[0] != (api.Node{Name: "START", Size: len(tree)}) {
+		return false
+	}
+	sizes := map[string]int{"J": 0}
+	for name := 'I'; name >= 'A'; name-- {
+		sizes[string(name)] = 1 + api.MaxParts*sizes[string(name+1)]
+	}
+	open := []string{"A", "A"} // what is still to come, the next one last
+	for _, node := range tree[1:] {
+		last := len(open) - 1
+		name := open[last]
+		if node.Name != name || node.Rule != 0 || node.Size != sizes[name] {
+			return false
+		}
+		open = open[:last]
+		for range min(api.MaxParts, node.Size-1) {
+			open = append(open, string(name[0]+1))
+		}
+	}
+	return len(open) == 0
+}
+
+// TestReadGrownTree: a tree may have as many nodes as memory holds.
+func TestReadGrownTree(t *testing.T) {
+	tree, at, err := compiled(t, grown()).Read(nil)
+	if at != -1 || err != api.OK || !isGrown(tree) || cap(tree) != len(tree) {
+		t.Errorf("%d nodes, %d, %d, want 38347923 nodes, -1, 0", len(tree), at, err)
+	}
+}
+
+// TestReadGreatTrees (P1): a tree of a million nodes is built; one that no memory holds ends the call with an error, but hides no fault of a row.
 func TestReadGreatTrees(t *testing.T) {
 	tree, at, err := compiled(t, empties(api.MaxNames, 2)).Read(nil)
 	if at != -1 || err != api.OK || len(tree) != 1<<api.MaxNames-1 {
@@ -210,7 +247,10 @@ func TestReadGreatTrees(t *testing.T) {
 			t.Errorf("the node %d is %v, want %v", i, tree[i], want)
 		}
 	}
-	wantReadError(t, compiled(t, empties(api.MaxNames, api.MaxParts)), nil, api.ErrMany)
+	for times := 4; times <= api.MaxParts; times++ {
+		wantReadError(t, compiled(t, empties(api.MaxNames, times)), nil, api.ErrMany)
+	}
+	wantReadError(t, compiled(t, empties(12, api.MaxParts)), nil, api.ErrMany)
 	p := compiled(t, four+"rule START = a A c | b A d START\n"+empties(api.MaxNames-1, api.MaxParts))
 	wantReadError(t, p, strings.Fields("a c"), api.ErrMany)
 	wantReadError(t, p, strings.Fields(times(19, "b d")+"a c"), api.ErrMany)

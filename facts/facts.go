@@ -136,16 +136,22 @@ func (f *Facts) findFollow() {
 func (f *Facts) begins(parts []source.Part) (Set, bool) {
 	var first Set
 	for _, p := range parts {
-		if !p.IsName {
-			return first | only(p.Number), false
-		}
-		k := f.known[p.Number]
-		first |= k.first
-		if !k.nullable() {
+		more, empty := f.First(p)
+		first |= more
+		if !empty {
 			return first, false
 		}
 	}
 	return first, true
+}
+
+// First are the tokens with which a row can begin that a part derives, and whether it derives the empty row.
+func (f *Facts) First(p source.Part) (Set, bool) {
+	if !p.IsName {
+		return only(p.Number), false
+	}
+	k := f.known[p.Number]
+	return k.first, k.nullable()
 }
 
 // ahead are the tokens that can come first of a list of parts and of what follows it.
@@ -181,16 +187,16 @@ func (f *Facts) Told() []api.Fact {
 		told[n] = api.Fact{
 			Name:     f.Names[n].Word,
 			Nullable: k.nullable(),
-			First:    f.words(k.first),
-			Follow:   f.words(k.follow),
+			First:    f.Words(k.first),
+			Follow:   f.Words(k.follow),
 			Least:    k.least,
 		}
 	}
 	return told
 }
 
-// words are new memory each time.
-func (f *Facts) words(s Set) []string {
+// Words are how the tokens of a set are spelt, by number: new memory each time.
+func (f *Facts) Words(s Set) []string {
 	var words []string
 	for token := range s.All() {
 		words = append(words, f.Word(token))

@@ -14,10 +14,11 @@ type Grammar struct {
 	Names  []Name
 }
 
-// Token: how it is spelt, and what putting it in costs.
+// Token: how it is spelt, and what it costs to put it in and to leave it out.
 type Token struct {
-	Word string
-	Put  int
+	Word      string
+	Put, Drop int
+	swaps     []int // what changing it costs, by the number of the other token; 0, if no line allows it
 }
 
 // Name: how it is spelt, and its rules, each a list of parts.
@@ -48,7 +49,8 @@ func built(lines []line) (g Grammar) {
 		switch l.shape {
 		case tokenLine:
 			put, _ := cost(l.words[1])
-			g.Tokens = append(g.Tokens, Token{strings.Clone(l.words[0]), put})
+			drop, _ := cost(l.words[2])
+			g.Tokens = append(g.Tokens, Token{Word: strings.Clone(l.words[0]), Put: put, Drop: drop})
 		case ruleLine:
 			name := Name{Word: strings.Clone(l.words[0])}
 			for _, words := range l.rules() {
@@ -61,7 +63,24 @@ func built(lines []line) (g Grammar) {
 			g.Names = append(g.Names, name)
 		}
 	}
+	g.noteSwaps(lines, number)
 	return g
+}
+
+// noteSwaps goes behind all tokens, because a swap line may stand ahead of those that it is for. Of two for the same the first counts.
+func (g *Grammar) noteSwaps(lines []line, number map[string]Part) {
+	for t := range g.Tokens {
+		g.Tokens[t].swaps = make([]int, len(g.Tokens))
+	}
+	for _, l := range lines {
+		if l.shape != swapLine {
+			continue
+		}
+		from, to := number[l.words[0]].Number, number[l.words[1]].Number
+		if swaps := g.Tokens[from].swaps; swaps[to] == 0 {
+			swaps[to], _ = cost(l.words[2])
+		}
+	}
 }
 
 // numbered goes ahead of all rules, because a rule may have what a later line gives.
@@ -113,6 +132,12 @@ func (g Grammar) Spelt(p Part) string {
 		return g.Names[p.Number].Word
 	}
 	return g.Tokens[p.Number].Word
+}
+
+// SwapCost is what changing a token to another one costs; not ok, if no line allows it.
+func (g Grammar) SwapCost(from, to int) (cost int, ok bool) {
+	cost = g.Tokens[from].swaps[to]
+	return cost, cost > 0
 }
 
 // Rules are the rules of all names, each with its name's number.

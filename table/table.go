@@ -16,8 +16,8 @@ type Table struct {
 
 const none = -1
 
-// MaxNodes: of a tree that is built: of the empty row alone a grammar can have one that no memory holds.
-const MaxNodes = 1 << 25
+// MaxNodes: of a tree that is built. It stands for the memory, for whose size a program can't ask, and for want of which it is killed. So many nodes take 28 GiB: the most of which a machine of 64 GiB holds two trees, that of an earlier call and the one that is built before the earlier one's memory is free again.
+const MaxNodes = 7 << 27
 
 // huge: so many nodes or more.
 const huge = MaxNodes + 1

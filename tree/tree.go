@@ -17,9 +17,9 @@ const (
 // Read gives the tree of a row of tokens, if the grammar has it, else the place of the first token with which no row goes on that it has. ErrMany: of a tree that no memory holds.
 func Read(t *table.Table, row []int) ([]api.Node, int, api.Errno) {
 	ended := append(slices.Clone(row), t.End())
-	w := begun(t)
+	w := Begin(t)
 	for at, token := range ended {
-		if !w.take(token) {
+		if !w.Take(token) {
 			return nil, at, api.OK
 		}
 	}

@@ -3,23 +3,25 @@ package tree
 import (
 	"slices"
 
+	"darn/facts"
 	"darn/source"
 	"darn/table"
 )
 
-// walk: how far a row has been followed.
-type walk struct {
+// Walk: how far a row has been followed.
+type Walk struct {
 	*table.Table
 	rest  []source.Part // what the row must still have, the next part last
 	nodes int           // of the tree, as far as it is known
 }
 
-func begun(t *table.Table) *walk {
-	return &walk{Table: t, rest: []source.Part{t.Start()}}
+// Begin follows no token yet.
+func Begin(t *table.Table) *Walk {
+	return &Walk{Table: t, rest: []source.Part{t.Start()}}
 }
 
-// take goes past a token (or the END), if a row that the grammar has may go on with it.
-func (w *walk) take(token int) bool {
+// Take goes past a token (or the END), if a row that the grammar has may go on with it.
+func (w *Walk) Take(token int) bool {
 	for len(w.rest) > 0 {
 		last := len(w.rest) - 1
 		part := w.rest[last]
@@ -35,8 +37,21 @@ func (w *walk) take(token int) bool {
 	return token == w.End()
 }
 
+// Expected are the tokens with which a row that the grammar has may go on.
+func (w *Walk) Expected() []string {
+	var next facts.Set
+	for _, part := range slices.Backward(w.rest) {
+		first, empty := w.First(part)
+		next |= first
+		if !empty {
+			break
+		}
+	}
+	return w.Words(next)
+}
+
 // open puts a name's rule in its place, if it can begin with the token, and leaves the name out, if it can be empty: in one step, because the tree of an empty name may have any number of nodes.
-func (w *walk) open(name, token int) bool {
+func (w *Walk) open(name, token int) bool {
 	if w.Begins(name, token) {
 		parts, _ := w.Rule(name, token)
 		for _, p := range slices.Backward(parts) {
@@ -50,4 +65,4 @@ func (w *walk) open(name, token int) bool {
 	return empty > 0
 }
 
-func (w *walk) count(more int) { w.nodes = table.AddNodes(w.nodes, more) }
+func (w *Walk) count(more int) { w.nodes = table.AddNodes(w.nodes, more) }
